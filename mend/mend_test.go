@@ -38,7 +38,7 @@ func TestOpen(t *testing.T) {
 
 func TestAnswer(t *testing.T) {
 	var own rs
-	for i := range 30 {
+	for i := range 10 {
 		own = append(own, rec("key"+num.Digits(int64(i)), ver(1, int64(i)+1)))
 	}
 	tr, _ := tree.New(own...)
@@ -67,7 +67,7 @@ func TestAnswer(t *testing.T) {
 	other := tr.Kids()
 	empty := slices.Index(other, 0)
 	if empty < 0 {
-		t.Skip("no empty branch")
+		t.Fatal("no empty branch")
 	}
 	other[empty] = 7
 	if got := Answer(own, nil, other); len(got) != 1 || !slices.Equal(got[0].Hashes, noughts) || got[0].Path[0] != empty {
