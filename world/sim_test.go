@@ -7,6 +7,7 @@ import (
 	"testing"
 
 	"firth/api"
+	"firth/judge"
 	"firth/vect"
 )
 
@@ -318,12 +319,31 @@ func (s *sim) meet() {
 	}
 }
 
+// judged lets layer 23 judge what the sessions did.
+func (s *sim) judged() {
+	var acts []judge.Act
+	for _, e := range s.w.History() {
+		if e.Sess == 0 {
+			continue
+		}
+		a := judge.Act{Read: e.Kind == Get, Sess: e.Sess, Key: e.Key, Dot: e.Dot, OK: e.Ended > 0 && e.Err == 0, Seen: s.seen[e.Op]}
+		for _, v := range e.Vers {
+			a.Reads = append(a.Reads, v.Dot)
+		}
+		acts = append(acts, a)
+	}
+	if i, verdict := judge.Judge(acts); verdict != judge.Well {
+		s.t.Fatalf("%d: %d: %+v", i, verdict, acts[i])
+	}
+}
+
 func TestThePromisesOfTheWhole(t *testing.T) {
 	for seed := range int64(30) {
 		t.Run(fmt.Sprint(seed), func(t *testing.T) {
 			s := newSim(t, seed, 1500)
 			s.run()
 			s.meet()
+			s.judged()
 		})
 	}
 }
