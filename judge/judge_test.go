@@ -313,7 +313,7 @@ func TestWhatIsAddedChangesNothing(t *testing.T) {
 
 func TestLongHistories(t *testing.T) {
 	var list []Act
-	for i := range int64(3000) {
+	for i := range int64(800) {
 		list = append(list, write(int(i%5), "k", 1, i+1), reads(int(i%5), "l", v{i + 1}))
 	}
 	if i, v := Judge(list); i != -1 || v != Well {
