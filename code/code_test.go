@@ -1,4 +1,4 @@
-package code
+package code_test
 
 import (
 	"bytes"
@@ -8,6 +8,7 @@ import (
 	"testing"
 
 	"firth/api"
+	. "firth/code"
 	"firth/frame"
 	"firth/num"
 )
@@ -105,6 +106,50 @@ func TestMsgBytes(t *testing.T) {
 	}
 }
 
+// bytesOf tells what would stand in a message's frame, right or not.
+func bytesOf(m api.Msg) []byte {
+	var b []byte
+	put := func(list ...int64) {
+		for _, n := range list {
+			b = append(b, num.PutNum(n)...)
+		}
+	}
+	put(int64(m.Kind), int64(m.From.Site), int64(m.From.Node), int64(m.To.Site), int64(m.To.Node), m.Id, m.N, int64(m.For), int64(m.Code))
+	b = append(b, num.PutText(m.Key)...)
+	put(int64(len(m.Recs)))
+	for _, r := range m.Recs {
+		b = append(b, num.PutText(r.Key)...)
+		put(int64(len(r.Vers)))
+		for _, v := range r.Vers {
+			put(int64(v.Dot.S), v.Dot.N, int64(len(v.Past)))
+			for _, s := range v.Past {
+				put(int64(s.S), s.From, s.To-s.From)
+			}
+			if v.Gone {
+				put(1)
+				continue
+			}
+			put(0)
+			b = append(b, num.PutText(v.Val)...)
+		}
+	}
+	put(int64(len(m.Vec)))
+	put(m.Vec...)
+	put(int64(len(m.Path)))
+	for _, d := range m.Path {
+		put(int64(d))
+	}
+	put(int64(len(m.Hashes)))
+	for _, h := range m.Hashes {
+		put(int64(h>>32), int64(h&(1<<32-1)))
+	}
+	put(int64(len(m.Route)))
+	for _, s := range m.Route {
+		put(int64(s))
+	}
+	return b
+}
+
 func wrongMsgs() []api.Msg {
 	var l []api.Msg
 	add := func(change func(m *api.Msg)) {
@@ -157,9 +202,7 @@ func TestWrongMsgs(t *testing.T) {
 			t.Error(i, b, e)
 		}
 		// The bytes that a wrong message would have are none (numbers below 0 have no bytes).
-		var w writer
-		w.msg(m)
-		b, _ := frame.Put(w.b)
+		b, _ := frame.Put(bytesOf(m))
 		negative := m.Kind < 0 || m.From.Node < 0 || m.To.Node < 0 || m.Id < 0 || m.N < 0 || m.For < 0 || m.Code < 0 || len(m.Vec) > 0 && m.Vec[0] < 0 || len(m.Path) == 2 && m.Path[1] < 0
 		if got, e := Msg(b); !negative && (e != api.ErrForm || !reflect.DeepEqual(got, api.Msg{})) {
 			t.Error(i, got, e)

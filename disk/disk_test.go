@@ -1,4 +1,4 @@
-package disk
+package disk_test
 
 import (
 	"bytes"
@@ -8,6 +8,7 @@ import (
 	"testing"
 
 	"firth/api"
+	. "firth/disk"
 )
 
 func want(t *testing.T, d *Disk, files ...string) {
@@ -81,8 +82,10 @@ func TestRoom(t *testing.T) {
 		t.Error(e, d.Loose())
 	}
 	want(t, d, "a", "")
-	if New(1<<40).room != api.MaxRoom || New(api.MaxRoom).room != api.MaxRoom {
-		t.Error("room")
+	d = New(1 << 40)
+	all(t, d.Append("a", make([]byte, api.MaxRoom)))
+	if e := d.Append("a", []byte{1}); e != api.ErrFull {
+		t.Error("more than the greatest room", e)
 	}
 	d = New(2)
 	all(t, d.Append("a", []byte("xy")), d.Cut("a", 0), d.Append("b", []byte("12")), d.Remove("b"), d.Append("c", []byte("34")), d.Rename("c", "a"))

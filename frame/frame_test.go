@@ -1,4 +1,4 @@
-package frame
+package frame_test
 
 import (
 	"bytes"
@@ -6,6 +6,7 @@ import (
 	"testing"
 
 	"firth/api"
+	. "firth/frame"
 	"firth/num"
 )
 

@@ -1,4 +1,4 @@
-package inbox
+package inbox_test
 
 import (
 	"math/rand"
@@ -6,6 +6,7 @@ import (
 	"testing"
 
 	"firth/api"
+	. "firth/inbox"
 	"firth/vect"
 )
 

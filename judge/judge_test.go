@@ -1,12 +1,14 @@
-package judge
+package judge_test
 
 import (
+	"cmp"
 	"math/rand"
 	"reflect"
 	"slices"
 	"testing"
 
 	"firth/api"
+	. "firth/judge"
 	"firth/vect"
 )
 
@@ -122,6 +124,22 @@ func TestVerdicts(t *testing.T) {
 	judged(t, "through another key, stale", 4, Stale, a, write(1, "l", 1, 2), reads(2, "l", v{2}, d(1, 2)), b, reads(3, "k", v{2, 1}, d(2, 1), d(1, 1)))
 	judged(t, "told, so behind is in H", 3, Stale, a, c, b, reads(3, "k", v{}, d(2, 1), d(1, 1)))
 	judged(t, "the first of several", 1, Stale, a, reads(3, "k", v{1}), reads(4, "k", v{1}))
+}
+
+type set map[api.Dot]struct{}
+
+func (s set) has(d api.Dot) bool {
+	_, there := s[d]
+	return there
+}
+
+func rising(s set) []api.Dot {
+	var list []api.Dot
+	for d := range s {
+		list = append(list, d)
+	}
+	slices.SortFunc(list, func(a, b api.Dot) int { return cmp.Or(cmp.Compare(a.S, b.S), cmp.Compare(a.N, b.N)) })
+	return list
 }
 
 // slow works out what is behind each dot by joining sets till nothing changes.

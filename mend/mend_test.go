@@ -1,4 +1,4 @@
-package mend
+package mend_test
 
 import (
 	"math/rand"
@@ -7,6 +7,7 @@ import (
 	"testing"
 
 	"firth/api"
+	. "firth/mend"
 	"firth/num"
 	"firth/tree"
 	"firth/vers"

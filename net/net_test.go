@@ -1,9 +1,10 @@
-package net
+package net_test
 
 import (
 	"testing"
 
 	"firth/api"
+	. "firth/net"
 )
 
 var a, b, c = api.Addr{Site: 1}, api.Addr{Site: 1, Node: 2}, api.Addr{Site: 2}

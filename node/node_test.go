@@ -1,4 +1,4 @@
-package node
+package node_test
 
 import (
 	"math/rand"
@@ -11,6 +11,7 @@ import (
 	"firth/disk"
 	"firth/frame"
 	"firth/mend"
+	. "firth/node"
 	"firth/num"
 	"firth/ring"
 	"firth/tree"

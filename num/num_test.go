@@ -1,4 +1,4 @@
-package num
+package num_test
 
 import (
 	"bytes"
@@ -7,6 +7,7 @@ import (
 	"testing"
 
 	"firth/api"
+	. "firth/num"
 )
 
 const most = 1<<63 - 1

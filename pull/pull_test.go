@@ -1,4 +1,4 @@
-package pull
+package pull_test
 
 import (
 	"math/rand"
@@ -7,6 +7,7 @@ import (
 
 	"firth/api"
 	"firth/num"
+	. "firth/pull"
 	"firth/tree"
 	"firth/vers"
 )

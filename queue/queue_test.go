@@ -1,4 +1,4 @@
-package queue
+package queue_test
 
 import (
 	"bytes"
@@ -12,6 +12,7 @@ import (
 	"firth/disk"
 	"firth/frame"
 	"firth/num"
+	. "firth/queue"
 	"firth/seglog"
 	"firth/vers"
 )

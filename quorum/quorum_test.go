@@ -1,10 +1,11 @@
-package quorum
+package quorum_test
 
 import (
 	"slices"
 	"testing"
 
 	"firth/api"
+	. "firth/quorum"
 	"firth/vers"
 )
 

@@ -1,4 +1,4 @@
-package ring
+package ring_test
 
 import (
 	"slices"
@@ -7,6 +7,7 @@ import (
 
 	"firth/api"
 	"firth/num"
+	. "firth/ring"
 )
 
 var all = []int{1, 2, 3, 4, 5, 6, 7, 8}

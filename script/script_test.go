@@ -1,4 +1,4 @@
-package script
+package script_test
 
 import (
 	"math/rand"
@@ -7,6 +7,7 @@ import (
 	"testing"
 
 	"firth/api"
+	. "firth/script"
 	"firth/world"
 )
 

@@ -1,4 +1,4 @@
-package seal
+package seal_test
 
 import (
 	"bytes"
@@ -9,6 +9,7 @@ import (
 	"firth/api"
 	"firth/code"
 	"firth/num"
+	. "firth/seal"
 )
 
 var sets = [][]api.Span{nil, {{S: 1, From: 1, To: 3}}, {{S: 1, From: 1, To: 3}, {S: 1, From: 5, To: 300}, {S: 16, From: 1, To: api.MaxCount}}}

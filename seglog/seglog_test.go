@@ -1,4 +1,4 @@
-package seglog
+package seglog_test
 
 import (
 	"bytes"
@@ -11,6 +11,7 @@ import (
 	"firth/disk"
 	"firth/frame"
 	"firth/num"
+	. "firth/seglog"
 )
 
 func framedText(s string) []byte {
@@ -198,39 +199,23 @@ func TestAPartThatIsMissing(t *testing.T) {
 }
 
 func TestOrderOfRemovals(t *testing.T) {
-	d := disk.New(100000)
-	l := open(t, d, 16, "")
+	// The list has no room any more, so that the new parts are removed again, and that isn't made safe.
+	var list [][]byte
+	var names []string
 	for i := range 12 {
-		add(t, l, "0123456789"+string(rune('a'+i)))
+		list = append(list, []byte("0123456789"+string(rune('a'+i))))
+		names = append(names, "a.1."+num.Digits(int64(i)+1))
 	}
-	d.Append("a.m", append(number(5), 1))
-	d.Sync()
-	before := d.Names()
-	gone := before[:len(before)-1]
-	// Open's own changes are made safe at its end, so they are told here by a disk that has them as loose ones.
-	again := disk.New(100000)
-	for _, name := range before {
-		b, _ := d.Read(name)
-		again.Append(name, b)
-	}
-	again.Sync()
-	removeAll(again)
-	for keep := range len(gone) {
-		again.Crash(len(gone)-keep, 0)
-		if got := again.Names(); !slices.Equal(got, append(slices.Clone(gone[len(gone)-keep:]), "a.m")) {
-			t.Fatal(keep, got)
+	slices.Sort(names)
+	for keep := range 13 {
+		d := disk.New(12*16 + 5)
+		l := open(t, d, 16, "")
+		if e := l.Rewrite(list); e != api.ErrFull || d.Loose() != 12 {
+			t.Fatal(e, d.Loose())
 		}
-		for _, name := range gone[:len(gone)-keep] {
-			again.Append(name, nil)
-		}
-		again.Sync()
-		removeAll(again)
+		d.Crash(keep, 0)
+		files(t, d, names[keep:]...)
 	}
-}
-
-func removeAll(d *disk.Disk) {
-	p := place{disk: d, name: "a"}
-	p.removeIf(func(int, int) bool { return true })
 }
 
 func TestWrongLists(t *testing.T) {
@@ -270,15 +255,8 @@ func TestAppendErrors(t *testing.T) {
 
 func TestNumbersEnd(t *testing.T) {
 	d := disk.New(1 << 20)
-	l := open(t, d, 16, "")
-	l.last, l.fill = mostNumber, 10
-	if e := l.Append([]byte("0123456789")); e != api.ErrFull || d.Loose() != 0 {
-		t.Error(e)
-	}
-	add(t, l, "x")
-	d = disk.New(1 << 20)
 	d.Append("a.m", number(999999))
-	l = open(t, d, 16, "")
+	l := open(t, d, 16, "")
 	add(t, l, "one")
 	if e := l.Rewrite(nil); e != api.ErrFull {
 		t.Error(e)
@@ -287,13 +265,19 @@ func TestNumbersEnd(t *testing.T) {
 		t.Error(e)
 	}
 	open(t, d, 16, "one")
-	many := make([][]byte, mostNumber+1)
+	many := make([][]byte, 1000000)
 	for i := range many {
-		many[i] = make([]byte, 16)
+		many[i] = make([]byte, 12)
 	}
-	d = disk.New(1 << 20)
+	d = disk.New(1 << 26)
 	l = open(t, d, 16, "")
 	if e := l.Rewrite(many); e != api.ErrFull || d.Loose() != 0 || len(d.Names()) != 0 {
+		t.Error(e)
+	}
+	if e := l.Rewrite(many[1:]); e != 0 || l.Count() != 999999 {
+		t.Error(e)
+	}
+	if e := l.Append(nil); e != api.ErrFull || d.Loose() != 0 || l.Count() != 999999 {
 		t.Error(e)
 	}
 }

@@ -1,10 +1,11 @@
-package sess
+package sess_test
 
 import (
 	"slices"
 	"testing"
 
 	"firth/api"
+	. "firth/sess"
 )
 
 func open(t *testing.T, sites ...int) *Sessions {

@@ -1,4 +1,4 @@
-package site
+package site_test
 
 import (
 	"fmt"
@@ -13,6 +13,7 @@ import (
 	"firth/num"
 	"firth/ring"
 	"firth/seal"
+	. "firth/site"
 )
 
 func conf() api.Conf {

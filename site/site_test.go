@@ -1,4 +1,4 @@
-package site
+package site_test
 
 import (
 	"fmt"
@@ -13,6 +13,7 @@ import (
 	"firth/queue"
 	"firth/ring"
 	"firth/seal"
+	. "firth/site"
 	"firth/vers"
 )
 
@@ -522,27 +523,44 @@ func TestCutsThatAreWanted(t *testing.T) {
 	send := func(kind, from int, id int64) []api.Msg {
 		return s.Handle(api.Msg{Kind: kind, From: api.Addr{Site: from}, To: api.Addr{Site: 2}, Id: id})
 	}
-	if out := send(api.MCut, 1, 5); len(out) != 24 {
-		t.Fatal(len(out))
+	// made answers the scans of the cut that the gate is at, and tells what is sent then.
+	made := func(out []api.Msg) []api.Msg {
+		var next []api.Msg
+		for _, m := range out {
+			next = append(next, s.Handle(api.Msg{Kind: api.MScanned, From: m.To, To: m.From, Id: m.Id, N: m.N})...)
+		}
+		return next
 	}
-	for _, x := range []cutFor{{3, 7}, {1, 6}, {3, 8}} {
-		wantLines(t, send(api.MCut, x.site, x.id))
+	scans := send(api.MCut, 1, 5)
+	if len(scans) != 24 {
+		t.Fatal(len(scans))
 	}
-	if !slices.Equal(s.wanted, []cutFor{{1, 6}, {3, 8}}) || s.Idle() {
-		t.Error(s.wanted)
+	for _, x := range [][2]int64{{3, 7}, {1, 6}, {1, 5}, {3, 8}, {1, 6}} {
+		wantLines(t, send(api.MCut, int(x[0]), x[1]))
 	}
-	var out []api.Msg
 	for range c.Timeout {
-		if out = s.Tick(); len(out) != 24 || out[0].Id != 1 {
+		if out := s.Tick(); len(out) != 24 || out[0].Id != 1 {
 			t.Fatal(len(out))
 		}
 	}
-	// It is given up, and the next one begins.
-	if out = s.Tick(); len(out) != 24 || out[0].Id != 9 || !slices.Equal(s.wanted, []cutFor{{3, 8}}) {
-		t.Error(s.wanted)
+	// The cut 5 is given up, and those begin that are wanted still: 8 of site 3, and then 6 of site 1.
+	out := s.Tick()
+	if len(out) != 24 || out[0].Id != 9 {
+		t.Fatal(len(out))
+	}
+	wantLines(t, made(scans))
+	out = made(out)
+	if len(out) != 25 || line(out[0]) != "3.0 MCutOK id=8 vec=[0 0 0]"+hashes(out[0]) || s.Idle() {
+		t.Fatal(out)
+	}
+	out = made(out[1:])
+	if len(out) != 1 || line(out[0]) != "1.0 MCutOK id=6 vec=[0 0 0]"+hashes(out[0]) || !s.Idle() {
+		t.Fatal(out)
 	}
 	wantOuts(t, s)
 }
+
+func hashes(m api.Msg) string { return fmt.Sprintf(" hashes=%d", len(m.Hashes)) }
 
 func TestHeal(t *testing.T) {
 	s := fresh1(t)
@@ -769,28 +787,28 @@ func TestWhichJobIsFirst(t *testing.T) {
 	s.Handle(far(api.MCut, 2, api.Msg{Id: 6}))
 	s.Handle(ack(1, list[0]))
 	out := s.Handle(ack(1, list[1]))
-	if len(out) != 24 || s.job.kind != cutJob {
-		t.Fatal(len(out))
+	if len(out) != 24 {
+		t.Fatal("the cut is first", len(out))
 	}
 	out = answerScans(s, out)
-	if s.job.kind != healJob || len(out) != 2 || out[1].Kind != api.MBless {
-		t.Fatal(out)
+	if len(out) != 2 || out[0].Kind != api.MCutOK || out[1].Kind != api.MBless {
+		t.Fatal("then the healing", out)
 	}
 	out = s.Handle(ack(out[1].Id, 4))
-	if s.job.kind != ownJob || len(out) != 24 {
-		t.Fatal(s.job.kind)
+	if len(out) != 24 {
+		t.Fatal("then one's own records", len(out))
 	}
 	out = answerScans(s, out)
-	if s.job.kind != putJob || len(out) != 4 || out[0].Kind != api.MCut {
-		t.Fatal(out)
+	if len(out) != 4 || out[0].Kind != api.MCut || out[1].Recs[0].Vers[0].Dot != (api.Dot{S: 1, N: 2}) {
+		t.Fatal("then the next put", out)
 	}
 	out = answerPuts(s, out, 0)
-	if s.job.kind != farJob {
-		t.Fatal(s.job.kind)
+	if len(out) != 3 || out[0].Recs[0].Vers[0].Dot != (api.Dot{S: 2, N: 1}) {
+		t.Fatal("then the far write", out)
 	}
-	answerPuts(s, out, 0)
+	wantLines(t, answerPuts(s, out, 0), "2.0 MFarOK n=1")
 	wantOuts(t, s, "1 1.1 t", "4", "2 1.2 t")
-	if s.job != nil || s.Idle() {
+	if s.Idle() {
 		t.Error("the taking over goes on")
 	}
 }

@@ -1,4 +1,4 @@
-package span
+package span_test
 
 import (
 	"math/rand"
@@ -6,6 +6,7 @@ import (
 	"testing"
 
 	"firth/api"
+	. "firth/span"
 )
 
 const most = api.MaxCount

@@ -1,4 +1,4 @@
-package store
+package store_test
 
 import (
 	"math/rand"
@@ -10,6 +10,7 @@ import (
 	"firth/api"
 	"firth/disk"
 	"firth/frame"
+	. "firth/store"
 )
 
 func ver(s int, n int64, past ...api.Span) api.Ver {

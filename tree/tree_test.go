@@ -1,4 +1,4 @@
-package tree
+package tree_test
 
 import (
 	"math/rand"
@@ -9,6 +9,7 @@ import (
 
 	"firth/api"
 	"firth/num"
+	. "firth/tree"
 	"firth/vers"
 )
 

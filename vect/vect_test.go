@@ -1,4 +1,4 @@
-package vect
+package vect_test
 
 import (
 	"slices"
@@ -6,6 +6,7 @@ import (
 
 	"firth/api"
 	"firth/span"
+	. "firth/vect"
 )
 
 const most = api.MaxCount

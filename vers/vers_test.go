@@ -1,4 +1,4 @@
-package vers
+package vers_test
 
 import (
 	"math/rand"
@@ -8,6 +8,7 @@ import (
 
 	"firth/api"
 	"firth/num"
+	. "firth/vers"
 )
 
 func sp(s int, from, to int64) api.Span { return api.Span{S: s, From: from, To: to} }

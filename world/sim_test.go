@@ -1,4 +1,4 @@
-package world
+package world_test
 
 import (
 	"fmt"
@@ -9,6 +9,7 @@ import (
 	"firth/api"
 	"firth/judge"
 	"firth/vect"
+	. "firth/world"
 )
 
 // A sim drives a whole by chance, and holds what it tells against the document's own promises, P1 to P4.

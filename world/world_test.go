@@ -1,4 +1,4 @@
-package world
+package world_test
 
 import (
 	"fmt"
@@ -10,6 +10,7 @@ import (
 	"firth/api"
 	"firth/code"
 	"firth/seal"
+	. "firth/world"
 )
 
 func small() api.Conf {
@@ -556,7 +557,7 @@ func TestBytesThatAreNoMessage(t *testing.T) {
 	d.ticks(2)
 	state := func() string {
 		text := fmt.Sprint(d.Applied(1), d.Applied(2), d.Idle(1), d.Idle(2), d.Packets(), len(d.History()))
-		for _, x := range d.all() {
+		for _, x := range []api.Addr{at(1, 1), at(1, 2), at(1, 3), at(2, 1), at(2, 2), at(2, 3)} {
 			l, ok := d.Held(x)
 			text += fmt.Sprint(l, ok)
 		}
