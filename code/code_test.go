@@ -191,6 +191,8 @@ func TestWrongMsgs(t *testing.T) {
 	}
 	most := least()
 	most.Kind, most.Vec, most.Hashes = 17, make([]int64, 16), make([]uint64, 16)
+	most.Key = strings.Repeat("k", 32)
+	most.Route = slices.Repeat([]int{16}, 16)
 	if !RightMsg(most) {
 		t.Error("most")
 	}

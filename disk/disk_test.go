@@ -125,6 +125,9 @@ func TestCutRenameRemove(t *testing.T) {
 	if d.Loose() != 7 {
 		t.Error(d.Loose())
 	}
+	if d.Cut("A", 0) != 0 || d.Cut("\xff", 1) != 0 || d.Loose() != 9 {
+		t.Error("a cut to the whole length is a change, too")
+	}
 	want(t, d, "A", "", "\xff", "n")
 	d.Crash(0, 9)
 	want(t, d, "a", "abc", "b", "12")

@@ -306,6 +306,69 @@ func TestTreeAndLeaf(t *testing.T) {
 	}
 }
 
+// pairAt tells two keys of a partition at one place.
+func pairAt(part int) []string {
+	seen := map[string]string{}
+	for i := int64(0); ; i++ {
+		key := "key" + num.Digits(i)
+		place := num.Digits(int64(tree.Place(key)[0])) + "." + num.Digits(int64(tree.Place(key)[1]))
+		if ring.Part(key) != part {
+			continue
+		}
+		if other := seen[place]; other != "" {
+			return []string{min(other, key), max(other, key)}
+		}
+		seen[place] = key
+	}
+}
+
+func TestALeafOfSeveral(t *testing.T) {
+	n, d := ready(t)
+	keys := pairAt(0)
+	list := rs{rec(keys[0], ver(1, 1)), rec(keys[1], ver(1, 2))}
+	tells(t, n, msg(api.MLeaf, api.Msg{N: 0, Path: tree.Place(keys[0]), Recs: list}))
+	if !same(n.Recs(0), list) {
+		t.Error(n.Recs(0))
+	}
+	// Up to the first error: then what is there is given all the same.
+	d.Append("x", make([]byte, 1<<20-d.Used()-12))
+	more := rs{rec(keys[0], ver(2, 1, sp(1, 1, 1))), rec(keys[1])}
+	tells(t, n, msg(api.MLeaf, api.Msg{N: 0, Path: tree.Place(keys[0]), Recs: more}), back(api.MLeaf, api.Msg{N: 0, Path: tree.Place(keys[0]), Recs: list[1:], Code: 1}))
+	if !same(n.Recs(0), list) {
+		t.Error(n.Recs(0))
+	}
+	if len(n.Mend(2, 0)) != 1 || len(n.Mend(8, 7)) != 1 {
+		t.Error("Mend")
+	}
+	tells(t, n, msg(api.MScan, api.Msg{}), back(api.MScanned, api.Msg{Recs: list}))
+}
+
+func TestAnotherNode(t *testing.T) {
+	a := api.Addr{Site: 16, Node: 8}
+	n, e := Open(disk.New(10000), a, 16, 0)
+	if e != 0 {
+		t.Fatal(e)
+	}
+	if _, e := Open(disk.New(100), api.Addr{Site: 1, Node: 1}, 16, 0); e != 0 {
+		t.Error(e)
+	}
+	for f := 1; f <= 7; f++ {
+		n.Handle(api.Msg{Kind: api.MPut, From: api.Addr{Site: 16}, To: a, For: f, Recs: rs{rec("k", ver(1, int64(f)))}})
+	}
+	out := n.Tick()
+	for f := 1; f <= 7; f++ {
+		if len(n.Hints(f)) != 1 || len(out) != 7 || out[f-1].To != (api.Addr{Site: 16, Node: f}) {
+			t.Error(f, out)
+		}
+	}
+	if len(n.Hints(8)) != 0 {
+		t.Error("for itself")
+	}
+	if out := n.Handle(api.Msg{Kind: api.MPutOK, From: api.Addr{Site: 16, Node: 1}, To: a, Recs: rs{rec("k", ver(1, 1))}}); len(out) != 0 || len(n.Hints(1)) != 0 || len(n.Hints(2)) != 1 {
+		t.Error(n.Hints(1))
+	}
+}
+
 func TestMend(t *testing.T) {
 	n, _ := ready(t)
 	key := keysOf(5, 1)[0]

@@ -218,7 +218,12 @@ func TestNothingIsKept(t *testing.T) {
 	p.Wants()[0][0] = 99
 	place := tree.Place("k")
 	h, _, _ := c.Want(place[:1])
-	p.Tell(place[:1], h, nil)
+	path := append(make([]int, 0, 9), place[0])
+	p.Tell(path, h, nil)
+	if path[:2][1] != 0 {
+		t.Error("the spare room is changed")
+	}
+	p.Wants()[0][1] = 99
 	_, l, _ := c.Want(place)
 	p.Tell(place, nil, l)
 	l[0].Vers[0].Past[0].To = 9

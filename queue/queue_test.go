@@ -487,13 +487,20 @@ func TestNothingIsKept(t *testing.T) {
 	c := conf()
 	q := open(t, d, c)
 	c.Links[0], c.Members[0] = 9, 9
+	if !slices.Equal(q.Members(), []int{1, 4}) {
+		t.Error("kept")
+	}
 	ok(t, q.Jump([]int64{0, 9, 0}))
 	past := []api.Span{sp(2, 1, 1)}
 	v, _ := q.Issue("k", past, false, "v")
 	past[0].To = 5
+	if v.Past[0].To != 1 {
+		t.Error("shared")
+	}
 	v.Past[0].To = 6
 	r, _ := q.Under()
-	if r.Vers[0].Past[0].To != 1 {
+	r.Vers[0].Past[0].To = 7
+	if r, _ = q.Under(); r.Vers[0].Past[0].To != 1 {
 		t.Error("kept")
 	}
 	route := []int{1}

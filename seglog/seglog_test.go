@@ -179,6 +179,34 @@ func TestOpenMendsItsFiles(t *testing.T) {
 	}
 }
 
+func TestEachChangeIsMadeSafe(t *testing.T) {
+	for i, change := range []func(d *disk.Disk){
+		func(d *disk.Disk) { d.Append("a.m", []byte{9}) },
+		func(d *disk.Disk) { d.Append("a.7.1", nil) },
+		func(d *disk.Disk) { d.Append("a.999999.999999", nil) },
+		func(d *disk.Disk) { d.Append("a.0.1", []byte{9}) },
+		func(d *disk.Disk) { d.Append("a.0.3", framedText("three")) },
+	} {
+		d := disk.New(1000)
+		d.Append("a.0.1", framedText("one"))
+		change(d)
+		open(t, d, 16, "one")
+		if d.Loose() != 0 || d.Used() != 8 {
+			t.Error(i, d.Loose(), d.Names())
+		}
+	}
+}
+
+func TestAnOldPartThatIsFull(t *testing.T) {
+	d := disk.New(1000)
+	add(t, open(t, d, 16, ""), "0123456789a")
+	l := open(t, d, 16, "0123456789a")
+	add(t, l, "x")
+	files(t, d, "a.0.1", "a.0.2")
+	add(t, open(t, d, 16, "0123456789a,x"), "y")
+	files(t, d, "a.0.1", "a.0.2")
+}
+
 func TestAPartThatIsMissing(t *testing.T) {
 	d := disk.New(10000)
 	d.Append("a.0.1", framedText("one"))
@@ -265,6 +293,13 @@ func TestNumbersEnd(t *testing.T) {
 		t.Error(e)
 	}
 	open(t, d, 16, "one")
+	d = disk.New(1 << 20)
+	d.Append("a.m", number(999998))
+	if l = open(t, d, 16, ""); l.Rewrite([][]byte{[]byte("one")}) != 0 {
+		t.Error("the last generation")
+	}
+	add(t, open(t, d, 16, "one"), "two")
+	files(t, d, "a.999999.1", "a.m")
 	many := make([][]byte, 1000000)
 	for i := range many {
 		many[i] = make([]byte, 12)

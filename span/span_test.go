@@ -111,6 +111,9 @@ func TestJoin(t *testing.T) {
 	if _, e := Join(row(api.MaxSpans, 1), row(1, 5000)); e != api.ErrSpans {
 		t.Error(e)
 	}
+	if got, e := Join(row(api.MaxSpans-1, 1), row(1, 5000)); e != 0 || len(got) != api.MaxSpans {
+		t.Error(len(got), e)
+	}
 }
 
 func TestWithin(t *testing.T) {

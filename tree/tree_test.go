@@ -198,6 +198,12 @@ func TestNothingIsKept(t *testing.T) {
 	r.Vers[0].Dot.N = 9
 	tr.Recs()[0].Vers[0].Past[0].To = 7
 	tr.Kids()[0]++
+	path := append(make([]int, 0, 9), Place("k")[0])
+	tr.Kids(path...)
+	tr.Recs(path...)
+	if path[:2][1] != 0 {
+		t.Error("the spare room is changed")
+	}
 	fresh := make1(t, tr.Recs()...)
 	if fresh.Hash() != was || tr.Recs()[0].Vers[0].Past[0].To != 1 {
 		t.Error("kept")

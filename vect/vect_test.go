@@ -38,6 +38,9 @@ func TestAtCoversHolds(t *testing.T) {
 			t.Error(d)
 		}
 	}
+	if !Covers(v{0, 2}, api.Dot{S: 2, N: 2}) || !Holds(v{0, 2}, []api.Span{{S: 2, From: 1, To: 2}}) {
+		t.Error("the last site")
+	}
 	if Covers(v{-2}, api.Dot{S: 1, N: -3}) {
 		t.Error("a dot below 1")
 	}

@@ -167,6 +167,9 @@ func TestSpansOfPast(t *testing.T) {
 	if _, e := Past(vs{full}); e != api.ErrSpans {
 		t.Error(e)
 	}
+	if got, e := Past(vs{ver(2, 1, odds(1, api.MaxSpans-1, 1)...)}); e != 0 || len(got) != api.MaxSpans {
+		t.Error(len(got), e)
+	}
 	// What is too much on the way isn't at the end, where another version's Past fills the gaps.
 	if got, e := Past(vs{full, ver(3, 1, odds(1, api.MaxSpans, 2)...)}); e != 0 || len(got) != 3 {
 		t.Error(len(got), e)
