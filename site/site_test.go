@@ -21,6 +21,13 @@ func TestRight(t *testing.T) {
 	for i, change := range []func(c *api.Conf){
 		func(c *api.Conf) {}, func(c *api.Conf) { c.Links = nil; c.Sites = 1 }, func(c *api.Conf) { c.R, c.W = 3, 1 }, func(c *api.Conf) { c.R, c.W = 1, 3 },
 		func(c *api.Conf) { c.Secret = strings.Repeat("s", 64); c.Group = 0 }, func(c *api.Conf) { c.Room, c.Pend, c.Wait, c.Seg = 0, 0, 0, -5 },
+		func(c *api.Conf) {
+			*c = api.Conf{Sites: 1, Nodes: 1, Members: []int{1}, N: 1, R: 1, W: 1, Secret: "s", Cap: 1, Timeout: 1, HintAfter: 1}
+		},
+		func(c *api.Conf) {
+			c.Sites, c.Links, c.Nodes, c.Members = 16, [][2]int{{1, 16}, {15, 16}}, 8, []int{1, 2, 3, 4, 5, 6, 7, 8}
+			c.N, c.R, c.W = 8, 8, 8
+		},
 		func(c *api.Conf) { c.Cap, c.Timeout, c.HintAfter, c.Base = 65536, 1<<20, 1<<40, api.MaxCount }, func(c *api.Conf) { c.Links = [][2]int{{2, 3}, {1, 3}, {1, 2}} },
 	} {
 		c := conf()
@@ -158,6 +165,9 @@ func TestGet(t *testing.T) {
 	other := got(1, list[0], "k", ver(1, 1))
 	other.Recs[0].Key = "l"
 	s.Handle(other)
+	foreign := got(1, list[0], "k", ver(1, 1))
+	foreign.From.Site = 2
+	s.Handle(foreign)
 	wantLines(t, s.Handle(got(1, list[0], "k")))
 	wantLines(t, s.Handle(got(1, list[0], "k", ver(1, 5))))
 	wantOuts(t, s)
@@ -188,6 +198,7 @@ func TestTokensGrow(t *testing.T) {
 		t.Error(l)
 	}
 	var odd, even []api.Span
+	key := strings.Repeat("k", 32)
 	for i := range int64(api.MaxSpans) {
 		odd = append(odd, sp(1, 2*i+1, 2*i+1))
 		even = append(even, sp(1, 2*i+2, 2*i+2))
@@ -209,6 +220,15 @@ func TestTokensGrow(t *testing.T) {
 	wantOuts(t, s, "4 e30 1.5001")
 	if s.Applied()[0] != 5001 {
 		t.Error("the write is done")
+	}
+	// As many spans as may be, a value and a key as long as may be.
+	s.Put(5, token(t, odd[1:]...), key, strings.Repeat("v", 256), false)
+	for _, n := range keepersOf(c, key)[:2] {
+		s.Handle(ack(5, n))
+	}
+	wantOuts(t, s, "5 1.5002 t")
+	if o, e := s.Get(6, nil, key); e != 0 || len(o) != 3 {
+		t.Error(e)
 	}
 }
 
@@ -237,13 +257,20 @@ func TestPuts(t *testing.T) {
 	wantLines(t, s.Handle(no))
 	wantLines(t, s.Handle(ack(1, list[1])), toEach(list, "MPut id=3 k:1.2")...)
 	wantOuts(t, s, "1 1.1 t")
+	if _, e := s.Get(4, nil, "k"); e != 0 {
+		t.Error("the first put is over", e)
+	}
+	for i := range 2 {
+		s.Handle(got(4, list[i], "k"))
+	}
+	wantOuts(t, s, "4 t")
 	if r, _ := s.Under(); !r.Vers[0].Gone || r.Vers[0].Val != "" || len(r.Vers[0].Past) != 0 || s.Entries() != 1 {
 		t.Error(r)
 	}
 	s.Handle(ack(3, list[2]))
 	s.Handle(ack(3, list[1]))
 	wantOuts(t, s, "2 1.2 t")
-	wantLines(t, must(t)(s.Put(5, token(t, sp(1, 2, 2)), "k", "w", false)), toEach(list, "MPut id=4 k:1.3")...)
+	wantLines(t, must(t)(s.Put(5, token(t, sp(1, 2, 2)), "k", "w", false)), toEach(list, "MPut id=5 k:1.3")...)
 	if r, _ := s.Under(); !slices.Equal(r.Vers[0].Past, []api.Span{sp(1, 2, 2)}) {
 		t.Error(r)
 	}
@@ -387,6 +414,13 @@ func TestSendingOn(t *testing.T) {
 	if out := s.Tick(); len(out) != 4 || out[1].N != 3 || out[3].N != 5 {
 		t.Error(out)
 	}
+	c.Links = [][2]int{{2, 3}, {1, 2}}
+	s = open(t, c, 2, 0, disk.New(10000))
+	s.Put(1, nil, "k", "v", false)
+	for _, n := range keepersOf(c, "k")[:2] {
+		s.Handle(api.Msg{Kind: api.MPutOK, From: api.Addr{Site: 2, Node: n}, To: b, Id: 1})
+	}
+	wantLines(t, s.Tick(), "1.0 MFar n=1 k:2.1 route=[2]", "3.0 MFar n=1 k:2.1 route=[2]")
 }
 
 func TestFarWrites(t *testing.T) {
@@ -492,6 +526,11 @@ func TestCut(t *testing.T) {
 	wantLines(t, out, want...)
 	wantLines(t, s.Handle(far(api.MCut, 2, api.Msg{Id: 40})))
 	wantLines(t, s.Handle(far(api.MWant, 2, api.Msg{Id: 40, Path: []int{1}})))
+	// An asking that is done isn't asked again.
+	for _, n := range ring.List(conf().Members, 0, 3)[:2] {
+		s.Handle(scanned(1, n, 0, rec("k")))
+	}
+	wantLines(t, s.Tick(), want[3:]...)
 	for _, m := range []api.Msg{scanned(1, out[0].To.Node, 1), scanned(2, out[0].To.Node, 0), scanned(99, 1, 0), scanned(1, 4, 0)} {
 		wantLines(t, s.Handle(m))
 	}
@@ -582,6 +621,8 @@ func TestHeal(t *testing.T) {
 	wantLines(t, out, fmt.Sprintf("1.2 MPut id=9 %s:%d.1", recs[0].Key, recs[0].Vers[0].Dot.S), fmt.Sprintf("1.2 MPut id=10 %s:%d.1", recs[1].Key, recs[1].Vers[0].Dot.S))
 	wantLines(t, answerPuts(s, out, 3))
 	wantLines(t, s.Tick(), line(out[0]), line(out[1]))
+	wantLines(t, answerPuts(s, out[:1], 4))
+	wantLines(t, s.Tick(), line(out[1]))
 	wantLines(t, answerPuts(s, out, 4), "1.2 MBless id=11 n=4")
 	wantLines(t, s.Tick(), "1.2 MBless id=11 n=4")
 	for _, x := range []struct {
@@ -690,6 +731,11 @@ func TestTakingOver(t *testing.T) {
 	if _, e := s.Full(4, 2); e != api.ErrBusy {
 		t.Error(e)
 	}
+	for _, kind := range []int{api.MCutOK, api.MTell} {
+		if len(s.Handle(far(kind, 2, api.Msg{Id: 1, Vec: []int64{0, 0, 0}, Path: []int{1}}))) != 0 {
+			t.Error("there is no pull yet")
+		}
+	}
 	own := rec("k", ver(1, 1))
 	puts := answerScans(s, out, own)
 	wantLines(t, puts, toEach(keepersOf(conf(), "k"), "MPut id=10 k:1.1")...)
@@ -771,6 +817,40 @@ func TestATakingOverThatLastsTooLong(t *testing.T) {
 	wantOuts(t, s, "5 e201")
 	if !s.Idle() || s.Applied()[1] != 0 {
 		t.Error("not given up")
+	}
+}
+
+func TestATakingOverThatEndsDuringAnotherJob(t *testing.T) {
+	s := fresh1(t)
+	answerScans(s, must(t)(s.Full(3, 2)))
+	puts := must(t)(s.Put(4, nil, "k", "v", false))
+	for range 41 {
+		s.Tick()
+	}
+	wantOuts(t, s, "4 e201 1.1", "3 e201")
+	if s.Idle() {
+		t.Error("the write stays under way")
+	}
+	answerPuts(s, puts, 0)
+	if !s.Idle() || s.Applied()[0] != 1 {
+		t.Error(s.Applied())
+	}
+	// One's own records that are asked for so late that it ends meanwhile.
+	puts = must(t)(s.Put(5, nil, "k", "v", false))
+	s.Full(6, 2)
+	for range 38 {
+		s.Tick()
+	}
+	if out := answerPuts(s, puts, 0); len(out) != 24 {
+		t.Fatal(len(out))
+	}
+	s.Tick()
+	s.Tick()
+	wantOuts(t, s, "5 e201 1.2")
+	s.Tick()
+	wantOuts(t, s, "6 e201")
+	if !s.Idle() {
+		t.Error("its job is over, too")
 	}
 }
 
