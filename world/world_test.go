@@ -39,10 +39,24 @@ func drive(t *testing.T, c api.Conf) driver {
 	return driver{w, t}
 }
 
+// does lets an event happen; only what is opened or asked has a number.
+func (d driver) does(e Event) (api.Errno, int) {
+	d.t.Helper()
+	err, n := d.Do(e)
+	switch e.Kind {
+	case Open, Get, Put, Del, Try, Full, Move, Heal:
+	default:
+		if n != 0 {
+			d.t.Errorf("%+v: the number %d", e, n)
+		}
+	}
+	return err, n
+}
+
 // ok does an event that must go well, and tells its number.
 func (d driver) ok(e Event) int {
 	d.t.Helper()
-	err, n := d.Do(e)
+	err, n := d.does(e)
 	if err != 0 {
 		d.t.Fatalf("%+v: %d", e, err)
 	}
@@ -52,7 +66,7 @@ func (d driver) ok(e Event) int {
 // fails does an event that must be answered by an error; where it makes an entry, its number is told.
 func (d driver) fails(e Event, want api.Errno) int {
 	d.t.Helper()
-	err, n := d.Do(e)
+	err, n := d.does(e)
 	if err != want {
 		d.t.Errorf("%+v: %d, not %d", e, err, want)
 	}
@@ -631,6 +645,27 @@ func TestUpAndDown(t *testing.T) {
 	p, _ := d.Look(0)
 	if m, _ := code.Msg(p.Data); m.Id != 1<<32+1 {
 		t.Error("the boot is one higher", m.Id)
+	}
+}
+
+func TestWhatACrashKeeps(t *testing.T) {
+	for keep, idle := range []bool{false, true} {
+		d := drive(t, two())
+		d.put(d.session(1), "k")
+		d.ticks(1)
+		if !d.Idle(1) {
+			t.Fatal("not acknowledged")
+		}
+		// The acknowledgement was written down, but isn't safe yet.
+		d.ok(Event{Kind: Crash, Site: 1, Keep: keep, Torn: 3})
+		d.ok(Event{Kind: Start, Site: 1})
+		if d.Idle(1) != idle || !slices.Equal(d.Applied(1), []int64{1, 0}) {
+			t.Error(keep, d.Idle(1), d.Applied(1))
+		}
+		d.ticks(1)
+		if !d.Idle(1) {
+			t.Error("it is acknowledged again")
+		}
 	}
 }
 
